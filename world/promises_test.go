@@ -6,6 +6,7 @@ import (
 	"testing"
 
 	"tallyman/api"
+	"tallyman/bucket"
 	"tallyman/circuit"
 	"tallyman/field"
 	"tallyman/helper"
@@ -75,7 +76,7 @@ func (s *story) step() Step {
 		return Step{Kind: SStart, A: s.r.Intn(2)}
 	case n < 98:
 		now, _, _ := s.w.Counts()
-		return Step{Kind: SCollect, N: uint64(s.r.Intn(int(now)+10)) / 10 * 10}
+		return Step{Kind: SCollect, N: s.w.setup.Rules.Start(uint64(s.r.Intn(int(now) + 10)))}
 	}
 	return Step{Kind: SQuiet, A: s.r.Intn(70)}
 }
@@ -112,6 +113,12 @@ func (s *story) check(t *testing.T) {
 	if !slices.Equal(added(leader), added(helper)) {
 		t.Errorf("P6, P7: the leader added %v, the helper %v", added(leader), added(helper))
 	}
+	for _, x := range helper.All() {
+		own, is := leader.Seen(x.Id)
+		if is && x.Code != api.OK && x.Code != api.ErrWait && (own.Code == api.OK || own.Code == api.ErrWait) {
+			t.Errorf("P7: the helper refused report %d, the leader didn't", x.Id[0])
+		}
+	}
 	sums, many, checks := map[uint64]uint64{}, map[uint64]int{}, map[uint64]total.Check{}
 	for _, id := range added(leader) {
 		if _, honest := s.measured[id]; !honest {
@@ -136,10 +143,25 @@ func (s *story) check(t *testing.T) {
 	}
 }
 
+// some is a setup of either field, of any windows, with room for few reports or many.
+func some(seed int64) helper.Setup {
+	x := setup
+	x.Task.Circuit.Field = field.Field(1 + seed%2)
+	x.Task.Proofs = 1 + int(seed%3)
+	x.Rules = bucket.Rules{Window: uint64(5 + seed%13), Min: 1 + int(seed%3), Max: 3 + int(seed%9)}
+	x.Limit = 5 + int(seed%40)
+	x.Ahead = uint64(seed % 20)
+	return x
+}
+
 func TestWhateverBefalls(t *testing.T) {
 	collected := 0
 	for seed := range int64(60) {
-		s := newStory(t, seed, setup)
+		x := setup
+		if seed%2 == 1 {
+			x = some(seed / 2)
+		}
+		s := newStory(t, seed, x)
 		wanted := 0
 		for range 600 {
 			x := s.step()
