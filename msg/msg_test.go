@@ -118,12 +118,16 @@ func TestDecodeErrors(t *testing.T) {
 			t.Errorf("P20.2: Decode, case %d: %d", i, e)
 		}
 	}
-	wrong := append(packed(257), 0)
+	// How many entries there are is told, and looked at, ahead of them.
+	if _, e := Decode(packed(257)[:34]); e != api.ErrRange {
+		t.Errorf("P20.2: Decode of 257 entries that aren't there: %d", e)
+	}
+	if _, e := Decode(packed(256)[:34]); e != api.ErrShort {
+		t.Errorf("P20.2: Decode of 256 entries that aren't there: %d", e)
+	}
+	wrong := append(packed(2), 0)
 	wrong[0] = 0
 	if _, e := Decode(wrong); e != api.ErrRest {
-		t.Errorf("R2: Decode: %d", e)
-	}
-	if _, e := Decode(wrong[:len(wrong)-1]); e != api.ErrRange {
 		t.Errorf("R2: Decode: %d", e)
 	}
 }
